@@ -197,3 +197,21 @@ func TestStrangeInterfaces(t *testing.T) {
 		}
 	}
 }
+
+// Told where the table would be no good one any more, whether or not what stands
+// there is exported.
+func TestContradictingInterfaces(t *testing.T) {
+	record := func(desc, base int, l ...api.TyField) api.Ty {
+		return api.Ty{Form: api.FmRecord, Mod: "K", Desc: desc, Base: base, Fields: l}
+	}
+	field := api.TyField{Name: "a", Type: api.FmChar, Export: true}
+	both := func(name string, l ...api.Ty) api.Face {
+		return keyed(t, api.Face{Name: name, Uses: []api.Used{{Name: "K"}}, Types: with(l...), Objs: []api.Obj{objOf(api.ClType, "R", 7, 0), objOf(api.ClType, "S", 8, 0), objOf(api.ClVar, "v", 8, 0)}})
+	}
+	l, m := both("L", record(0, 0, field), record(1, 7)), both("M", record(0, 0), record(1, 7, field))
+	for _, x := range []faulty{
+		{"VAR x: L.R; y: @M.S;", api.ErrFace}, {"VAR x: M.R; y: M.S;", 0}, {"VAR x: L.R; BEGIN x.a := @M.v.a", api.ErrFace}, {"VAR x: M.R; y: L.S;", 0}, {"VAR x: L.R; b: BOOLEAN; PROCEDURE P(VAR r: L.R); BEGIN b := r IS @M.S END P;", api.ErrFace}, {"TYPE T = RECORD (L.R) END; P = POINTER TO @M.S;", api.ErrFace}, {"VAR x: L.S; y: M.S;", 0},
+	} {
+		mustDo(t, x.code, "MODULE A; IMPORT L, M; "+x.s+" END A.", l, m)
+	}
+}

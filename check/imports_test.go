@@ -141,3 +141,15 @@ func TestImported(t *testing.T) {
 		{"IMPORT L; VAR a: L.R; b: L.P; c: L.Num; d: L.F; e: L.T8; BEGIN a.a := 1; b := NIL; c := 1; d := L.Fn; e := L.t", 0}, {"IMPORT L; VAR a: @L.H;", api.ErrName}, {"IMPORT L; VAR a: @L.T;", api.ErrName}, {"IMPORT L; VAR a: @L.v;", api.ErrName}, {"IMPORT L; VAR a: @L.k;", api.ErrName}, {"IMPORT L; VAR a: @L.Fn;", api.ErrName}, {"IMPORT L; VAR a: @L.zz;", api.ErrName}, {"IMPORT X := L; VAR a: @L.R;", api.ErrName}, {"IMPORT X := L; VAR a: X.R;", 0}, {"IMPORT L; VAR a: @L;", api.ErrName}, {"IMPORT L; TYPE T = POINTER TO L.R; VAR a: T; BEGIN a.a := 1", 0}, {"IMPORT L; TYPE T = POINTER TO @L.P;", api.ErrType}, {"IMPORT L; TYPE T = POINTER TO @L.Num;", api.ErrType}, {"IMPORT L; TYPE T = POINTER TO @L.zz; zz = RECORD END;", api.ErrName}, {"IMPORT L; TYPE T = RECORD (L.R) c: INTEGER END; VAR a: T; BEGIN a.a := a.c", 0}, {"IMPORT L; TYPE T = RECORD (L.R) @b: INTEGER END;", api.ErrTwice}, {"IMPORT L; TYPE T = RECORD (L.E) @a: INTEGER END;", api.ErrTwice}, {"IMPORT L; TYPE T = RECORD (@L.P) END;", api.ErrType}, {"IMPORT L; TYPE T = RECORD (@L.Num) END;", api.ErrType}, {"IMPORT L; TYPE T = PROCEDURE (): @L.R;", api.ErrType}, {"IMPORT L; TYPE T = PROCEDURE (): L.P;", 0}, {"IMPORT L; CONST c = L.k + 1; d = L.one = 78X; VAR a: ARRAY L.k OF CHAR; BEGIN a[6] := 1X", 0}, {"IMPORT L; VAR a: ARRAY L.k OF CHAR; BEGIN a[@7] := 1X", api.ErrConst}, {"IMPORT L; CONST c = @L.v;", api.ErrConst}, {"IMPORT L; CONST c = @L.R;", api.ErrConst}, {"IMPORT L; CONST c = @L;", api.ErrConst}, {"IMPORT L; CONST c = @L.w;", api.ErrName}, {"IMPORT L; CONST c = LEN(L.t);", 0},
 	})
 }
+
+// P18.1: an imported type with all that stands in it, which has another place
+// here than there.
+func TestImportedParts(t *testing.T) {
+	l := mustPass(t, "MODULE L; TYPE A* = ARRAY 2 OF CHAR; R* = RECORD i*: INTEGER END; Q* = RECORD (R) a*: A; p*: POINTER TO R END; P* = POINTER TO Q; F* = PROCEDURE (VAR q: Q): P; VAR f*: F; g*: ARRAY 2 OF F; END L.")
+	s := "MODULE A; IMPORT L; TYPE X = ARRAY 3 OF SET; Y = RECORD x: X END; VAR x: X; y: Y; q: L.Q; b: BOOLEAN; "
+	for _, x := range []faulty{
+		{"BEGIN q.i := L.f(q).i; b := q.a = L.f(q).a; b := L.f(q).p = NIL; L.f(q).p.i := 1", 0}, {"BEGIN q.i := L.g[1](q).p.i", 0}, {"VAR p: L.P; BEGIN p := L.f(q); p := L.g[0](p^)", 0}, {"BEGIN q.i := L.f(@x).i", api.ErrType}, {"BEGIN @b := L.f(q)", api.ErrType}, {"BEGIN @x := L.f(q).a", api.ErrType}, {"BEGIN @y := L.f(q)^", api.ErrType}, {"BEGIN L.f(q)^ := q", 0}, {"PROCEDURE F(VAR q: L.Q): L.P; RETURN L.f(q) END F; BEGIN b := F = L.f", 0},
+	} {
+		mustDo(t, x.code, strings.Replace(s, "b: BOOLEAN; ", "b: BOOLEAN; "+strings.TrimPrefix(x.s, "VAR "), 1)+" END A.", l)
+	}
+}
