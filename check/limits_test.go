@@ -48,6 +48,16 @@ func TestFullTable(t *testing.T) {
 	}
 }
 
+// P18.1: a full table, and the first type of many that is one more.
+func TestNoRoomForTheFirst(t *testing.T) {
+	lf := libFace(t)
+	for _, rest := range []string{
+		"T = @POINTER TO R; R = RECORD END;", "T = PROCEDURE (a: @ARRAY OF CHAR);", "T = PROCEDURE (a: ARRAY OF @ARRAY OF CHAR);", "T = POINTER TO @RECORD END;", "T = RECORD a: @ARRAY 2 OF CHAR END;", "T = ARRAY 2 OF @RECORD END;", "T = RECORD p: @POINTER TO T END;", "PROCEDURE P(a: @ARRAY OF CHAR); END P;", "VAR a: ARRAY 2 OF @L.P;",
+	} {
+		mustFault(t, api.ErrMany, "MODULE A; IMPORT L; "+strings.Replace("TYPE "+fillers(api.MaxTypes-basics)+rest+" END A.", "TYPE VAR", "VAR", 1), lf)
+	}
+}
+
 // P18.1: the 65th record of the module's own. Imported ones are not counted.
 func TestRecordsOfOnesOwn(t *testing.T) {
 	lf := libFace(t)
